@@ -1,14 +1,17 @@
 // Package module: modules: see doc/02-module.md.
 package module
 
-import "shipfitter/api"
+import (
+	"shipfitter/api"
+	"shipfitter/rules"
+)
 
 // Check a module.
 func Check(m api.Module) api.Errno {
-	if !isName(m.Name) || m.Name == api.KernelName {
+	if !rules.IsName(m.Name) || m.Name == api.KernelName {
 		return api.ErrForm
 	}
-	if !isVersion(m.Major, m.Minor) {
+	if !rules.IsVersion(m.Major, m.Minor) {
 		return api.ErrRange
 	}
 	if tooMany(m) {
@@ -17,10 +20,10 @@ func Check(m api.Module) api.Errno {
 	if len(m.Text) == 0 || len(m.Text)%4 != 0 {
 		return api.ErrForm
 	}
-	if e := wrongExports(m.Exports, len(m.Text)); e != api.OK {
+	if e := rules.Exports(m.Exports, len(m.Text)); e != api.OK {
 		return e
 	}
-	if e := wrongImports(m.Imports); e != api.OK {
+	if e := rules.Imports(m.Imports...); e != api.OK {
 		return e
 	}
 	return wrongPatches(m.Patches, len(m.Text), len(m.Imports))
