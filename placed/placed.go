@@ -1,4 +1,4 @@
-// Package placed: what more than one layer holds modules that are placed to.
+// Package placed: what more than one layer holds modules that are placed to, and asks of where they lie.
 package placed
 
 import (
@@ -23,3 +23,6 @@ func Wrong(l []api.Placed, more ...func(p api.Placed) api.Errno) api.Errno {
 	}
 	return api.OK
 }
+
+// Address at which a sector begins.
+func Address(sector int) int { return api.Base + sector*api.SectorSize }

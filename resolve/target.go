@@ -4,6 +4,7 @@ import (
 	"slices"
 
 	"shipfitter/api"
+	"shipfitter/placed"
 )
 
 // target is what an import may mean: the kernel, or a module where it is placed.
@@ -38,8 +39,7 @@ func meant(k api.Kernel, l []api.Placed, name string) (target, bool) {
 	if !ok {
 		return target{}, false
 	}
-	begin := api.Base + p.First*api.SectorSize
-	return target{p.Module.Major, p.Module.Minor, begin, p.Module.Exports}, true
+	return target{p.Module.Major, p.Module.Minor, placed.Address(p.First), p.Module.Exports}, true
 }
 
 // first of a list that is what is looked for.
